@@ -1,0 +1,1 @@
+"""Hushrow: what the rows of a program tell to whom."""
