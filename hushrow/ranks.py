@@ -6,10 +6,18 @@ from hushrow.errors import NoRank
 WORDS = ("open", "house", "closed")
 
 
-def rank_of(word):
+def rank_told(word):
+    """The rank, or None: for those who ask whether a word tells one at all."""
     if word not in WORDS:
-        raise NoRank(word)
+        return None
     return WORDS.index(word)
+
+
+def rank_of(word):
+    rank = rank_told(word)
+    if rank is None:
+        raise NoRank(word)
+    return rank
 
 
 def word_of(rank):

@@ -40,6 +40,16 @@ NO_WORDS = re.compile(
 )
 
 
+# L22: the keywords that Python's own names are called with.
+KEYWORDS = {
+    "sorted": {"key", "reverse"}, "min": {"key", "default"}, "max": {"key", "default"},
+    "sum": {"start"}, "enumerate": {"start"}, "zip": {"strict"},
+}
+# L23: what is walked on the spot, and what may walk it.
+WALKED = {"zip", "enumerate", "reversed", "range", "items", "keys", "values"}
+WALKERS = {"list", "tuple", "dict", "sorted", "sum", "any", "all", "enumerate", "zip"}
+
+
 def sources():
     return {path.stem: path.read_text(encoding="utf-8") for path in sorted(PACKAGE.glob("*.py"))}
 
@@ -68,6 +78,49 @@ def own_attributes(trees):
                 found |= {part.name for part in node.body if isinstance(part, ast.FunctionDef)}
             elif isinstance(node, ast.Attribute) and isinstance(node.ctx, ast.Store):
                 found.add(node.attr)
+    return found
+
+
+def methods_and_values(trees):
+    """The names of all methods, and of all values that are given through self."""
+    methods, values = set(), set()
+    for tree in trees:
+        for node in ast.walk(tree):
+            if isinstance(node, ast.ClassDef):
+                methods |= {part.name for part in node.body if isinstance(part, ast.FunctionDef)}
+            elif isinstance(node, ast.Attribute) and isinstance(node.ctx, ast.Store):
+                values.add(node.attr)
+    return methods, values
+
+
+def top_names(tree):
+    """What a file defines at its top."""
+    found = set()
+    for node in tree.body:
+        if isinstance(node, (ast.FunctionDef, ast.ClassDef)):
+            found.add(node.name)
+        elif isinstance(node, ast.Assign):
+            found |= {target.id for target in node.targets}
+    return found
+
+
+def drawn_from(tree):
+    return {node.module.removeprefix("hushrow.") for node in tree.body if isinstance(node, ast.ImportFrom)}
+
+
+def in_a_ring(trees):
+    """The files from which one comes back to themselves by imports."""
+    drawn = {stem: drawn_from(tree) for stem, tree in trees.items()}
+    found = []
+    for stem in drawn:
+        behind, waiting = set(), list(drawn[stem])
+        while waiting:
+            one = waiting.pop()
+            if one not in behind:
+                behind.add(one)
+                waiting += drawn[one]
+        if stem in behind:
+            found.append(stem)
     return found
 
 
@@ -113,6 +166,88 @@ def def_faults(node):
         yield "L4: a decorator or a parameter that isn't plain"
     if set(a.arg for a in args.args) & set(dir(builtins)):
         yield "L15: a parameter called like a name of Python's own"
+    if node.returns or any(a.annotation for a in args.args):
+        yield "L21: an annotation"
+
+
+def local_faults(tree):
+    taken = set()
+    for node in tree.body:
+        if isinstance(node, ast.ImportFrom):
+            taken |= {a.asname or a.name for a in node.names}
+        elif isinstance(node, ast.ClassDef):
+            taken.add(node.name)
+    for top in tree.body:
+        for node in ast.walk(top) if isinstance(top, (ast.FunctionDef, ast.ClassDef)) else []:
+            name = node.arg if isinstance(node, ast.arg) else None
+            if isinstance(node, ast.Name) and isinstance(node.ctx, ast.Store):
+                name = node.id
+            if isinstance(node, ast.ExceptHandler):
+                name = node.name
+            if name in taken:
+                yield f"L15: {name} is a class or an import of the file"
+
+
+def called_name(node):
+    if not isinstance(node, ast.Call):
+        return None
+    return node.func.id if isinstance(node.func, ast.Name) else getattr(node.func, "attr", None)
+
+
+def may_walk(node, parent):
+    if isinstance(parent, (ast.For, ast.comprehension)):
+        return parent.iter is node
+    name = called_name(parent)
+    if name in {"min", "max"}:
+        return len(parent.args) == 1
+    if name == "join":
+        return isinstance(parent.func.value, ast.Constant)
+    return name in WALKERS and (parent.args[0] is node or name == "zip")
+
+
+def may_hold_a_set(parent):
+    return (
+        called_name(parent) in {"sorted", "len"} and not parent.keywords
+        or isinstance(parent, (ast.Compare, ast.BinOp))
+    )
+
+
+def call_faults(tree):
+    for parent in ast.walk(tree):
+        for node in ast.iter_child_nodes(parent):
+            name = called_name(node)
+            if name in WALKED and not may_walk(node, parent):
+                yield f"L23: {name} is not walked on the spot, line {node.lineno}"
+            if name in {"set", "frozenset"} and not may_hold_a_set(parent):
+                yield f"L24: a set is kept, line {node.lineno}"
+            if isinstance(node, ast.Call) and (name in BUILT_IN or name in METHODS):
+                if not {word.arg for word in node.keywords} <= KEYWORDS.get(name, set()):
+                    yield f"L22: a keyword at {name}, line {node.lineno}"
+
+
+def changed_name(node):
+    """What is changed by this node, as text, or None."""
+    if isinstance(node, ast.Subscript) and isinstance(node.ctx, ast.Store):
+        return ast.unparse(node.value)
+    if isinstance(node, ast.Call) and isinstance(node.func, ast.Attribute) and node.func.attr in {
+        "append", "clear", "extend", "insert", "pop", "remove", "reverse", "setdefault", "update",
+    }:
+        return ast.unparse(node.func.value)
+    return None
+
+
+def walk_faults(node):
+    walked = {ast.unparse(part) for part in ast.walk(node.iter) if isinstance(part, (ast.Name, ast.Attribute))}
+    for part in node.body:
+        for inner in ast.walk(part):
+            if changed_name(inner) in walked:
+                yield f"L23: what a loop walks is changed in it, line {inner.lineno}"
+
+
+def error_faults(node):
+    named = node.type.elts if isinstance(node.type, ast.Tuple) else [node.type]
+    if any(part is None or getattr(part, "id", "") in {"Exception", "TypeError"} for part in named):
+        yield f"L19: a handler of too much, line {node.lineno}"
 
 
 def class_faults(node):
@@ -150,6 +285,13 @@ def small_faults(node):
         yield "L6: else behind a loop, or finally"
     if isinstance(node, ast.Assign) and len(node.targets) > 1:
         yield "L6: more than one target"
+    if isinstance(node, ast.FormattedValue):
+        if not isinstance(node.value, ast.Name) or node.format_spec or node.conversion not in (-1, ord("r")):
+            yield "L7: more than a name within an f-string's braces"
+    if isinstance(node, ast.For):
+        yield from walk_faults(node)
+    if isinstance(node, ast.ExceptHandler):
+        yield from error_faults(node)
     if isinstance(node, ast.ListComp) and (len(node.generators) > 1 or len(node.generators[0].ifs) > 1):
         yield "L7: a comprehension with more than one for or if"
 
@@ -158,6 +300,7 @@ def faults(text, own, defined):
     """All faults of one file; own and defined are the whole package's."""
     tree = ast.parse(text)
     found = list(text_faults(text)) + list(top_faults(tree, defined))
+    found += list(local_faults(tree)) + list(call_faults(tree))
     known = named(tree)
     for node in ast.walk(tree):
         if not isinstance(node, NODES):
@@ -180,7 +323,7 @@ class Form(unittest.TestCase):
 
     def test_each_file(self):
         trees = {stem: ast.parse(text) for stem, text in sources().items()}
-        defined = {stem: {getattr(n, "name", None) for n in tree.body} for stem, tree in trees.items()}
+        defined = {stem: top_names(tree) for stem, tree in trees.items()}
         own = own_attributes(trees.values())
         self.assertIn("__init__", trees)
         for stem, text in sources().items():
@@ -189,6 +332,13 @@ class Form(unittest.TestCase):
 
     def test_the_init_binds_nothing(self):
         self.assertEqual(named(ast.parse(sources()["__init__"])), set())
+
+    def test_no_two_files_draw_from_one_another(self):
+        self.assertEqual(in_a_ring({stem: ast.parse(text) for stem, text in sources().items()}), [])
+
+    def test_no_name_is_both_a_method_and_a_value(self):
+        methods, values = methods_and_values([ast.parse(text) for text in sources().values()])
+        self.assertEqual(methods & values, set())
 
 
 class FormIsSeen(unittest.TestCase):
@@ -205,9 +355,21 @@ class FormIsSeen(unittest.TestCase):
             "def f(x):\n    x_ = y\n", "def f(_x):\n    return _x\n", "# the type\n", "# \u00e4\n", "x =\t1\n",
             "# " + "x" * 120 + "\n", "def f():\n" + "    pass\n" * 40, "# x\n" * 401,
             "def f(x):\n    return [a for b in x for a in b]\n", "def f(x):\n    list = x\n    return list\n",
+            "from hushrow.errors import Leak\n\n\ndef f(x):\n    Leak = x\n    return Leak\n",
+            "from hushrow.errors import Leak\n\n\ndef f(x):\n    return [Leak for Leak in x]\n",
+            "class A:\n    pass\n\n\ndef f(A):\n    return A\n", "def f(x: int):\n    return x\n",
+            "def f(x):\n    return f'{x + 1}'\n", "def f(x):\n    return f'{x:3}'\n",
+            "def f(x):\n    y = range(x)\n    return y\n", "def f(x):\n    return x.items()\n",
+            "def f(x):\n    y = set(x)\n    return y\n", "def f(x):\n    return 'a b'.split(sep=' ')\n",
+            "def f(x):\n    for y in x:\n        x.append(y)\n", "def f(x):\n    for y in x:\n        x[y] = 1\n",
+            "def f(x):\n    try:\n        return x\n    except TypeError:\n        return 0\n",
         ]:
             with self.subTest(text=text[:60]):
                 self.assertNotEqual(faults(text, set(), {"errors": {"Leak"}}), [])
+
+    def test_rings_are_found(self):
+        one, other = ast.parse("from hushrow.b import x\n"), ast.parse("from hushrow.a import y\n")
+        self.assertEqual(in_a_ring({"a": one, "b": other, "c": one}), ["a", "b"])
 
     def test_plain_text_has_none(self):
         text = '"""Plain."""\n\nXS = (1, 2)\n\n\ndef f(x):\n    return [y for y in XS if y != x]\n'
