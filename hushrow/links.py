@@ -2,7 +2,7 @@
 
 from hushrow.costs import balanced, exacts
 from hushrow.places import CLOCK, laid_program, row_place
-from hushrow.rows import CallRow, IfRow, LastRow, LoopRow, PutRow, SayRow, SendRow, SetRow
+from hushrow.rows import IfRow, LastRow, LoopRow, PutRow, SayRow, SendRow, SetRow
 
 
 def drawn(froms, into, kind, number):
@@ -23,9 +23,7 @@ def row_links(row, place, loop, parts_of):
         return drawn(row.reads(), here, "test", row.number) + drawn([place], here, "under", row.number)
     if isinstance(row, LastRow):
         return drawn([place], loop, "under", row.number)
-    if isinstance(row, CallRow):
-        return called_links(row, place, parts_of[row.name])
-    return []
+    return called_links(row, place, parts_of[row.name])
 
 
 def said_links(row, place):

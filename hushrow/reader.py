@@ -89,7 +89,7 @@ class Reader:
 
     def may_stand(self, word):
         if word in HEADS:
-            return self.opened == [] and self.program.deeds == [] and not self.begun
+            return self.program.deeds == [] and not self.begun
         if word == "deed" or word == "main":
             return self.opened == [] and not self.begun
         if word == "else":

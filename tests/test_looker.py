@@ -130,6 +130,8 @@ class LetBy(unittest.TestCase):
         self.assertEqual(unmet(program, steps=True), unmet(program, True))
         with self.assertRaises(Leak):
             let_by(program, steps=True)
+        self.assertEqual(unmet(program), [])
+        self.assertIs(let_by(program), True)
 
 
 class Chains(unittest.TestCase):
