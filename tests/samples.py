@@ -229,6 +229,17 @@ class Drawn:
         return {name: gifts[name] if ranks[name] <= rank else gift for name, gift in self.gifts().items()}
 
 
+def rows_of(program):
+    """All rows of a program, heads and deeds among them."""
+    found, waiting = [], program.heads + program.deeds + program.main
+    while waiting:
+        row = waiting.pop()
+        found.append(row)
+        for name in ("body", "first", "other"):
+            waiting += getattr(row, name, [])
+    return found
+
+
 def drawn(count, start=0):
     return [Drawn(seed) for seed in range(start, start + count)]
 

@@ -11,20 +11,9 @@ from hushrow.reader import read
 from hushrow.rows import IfRow, LoopRow, Program
 from hushrow.runner import run
 from hushrow.writer import written
-from samples import SPELLED, WHOLE, drawn
+from samples import SPELLED, WHOLE, drawn, rows_of
 
 HEADS = ["hand ann open", "given a open", "given b house", "given c closed", "own x"]
-
-
-def rows_of(program):
-    """All rows of a program, heads and deeds among them."""
-    found, waiting = [], program.heads + program.deeds + program.main
-    while waiting:
-        row = waiting.pop()
-        found.append(row)
-        for name in ("body", "first", "other"):
-            waiting += getattr(row, name, [])
-    return found
 
 
 class Evened(unittest.TestCase):

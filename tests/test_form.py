@@ -69,20 +69,8 @@ def named(tree):
     return found
 
 
-def own_attributes(trees):
-    """All methods and values that the package's own classes have."""
-    found = set()
-    for tree in trees:
-        for node in ast.walk(tree):
-            if isinstance(node, ast.ClassDef):
-                found |= {part.name for part in node.body if isinstance(part, ast.FunctionDef)}
-            elif isinstance(node, ast.Attribute) and isinstance(node.ctx, ast.Store):
-                found.add(node.attr)
-    return found
-
-
 def methods_and_values(trees):
-    """The names of all methods, and of all values that are given through self."""
+    """The names of all methods, and of all values, that the package's own classes have."""
     methods, values = set(), set()
     for tree in trees:
         for node in ast.walk(tree):
@@ -324,7 +312,8 @@ class Form(unittest.TestCase):
     def test_each_file(self):
         trees = {stem: ast.parse(text) for stem, text in sources().items()}
         defined = {stem: top_names(tree) for stem, tree in trees.items()}
-        own = own_attributes(trees.values())
+        methods, values = methods_and_values(trees.values())
+        own = methods | values
         self.assertIn("__init__", trees)
         for stem, text in sources().items():
             with self.subTest(file=stem):

@@ -10,7 +10,7 @@ from hushrow.reader import read
 from hushrow.rows import OwnRow, SendRow
 from hushrow.runner import run
 from hushrow.writer import written
-from samples import SPELLED, WHOLE, drawn
+from samples import SPELLED, WHOLE, drawn, rows_of
 
 HEADS = ["hand ann open", "given g open", "let m house", "given h closed", "own x", "own y", "own z", "let n closed",
          "given l house 2"]
@@ -203,16 +203,6 @@ class TwoRuns(unittest.TestCase):
                 for mine, yours in zip(first, second):
                     if mine[0] in sends and row_place(mine[0]) not in touched:
                         self.assertEqual(mine[2], yours[2])
-
-
-def rows_of(program):
-    found, waiting = [], program.deeds + program.main
-    while waiting:
-        row = waiting.pop()
-        found.append(row)
-        for name in ("body", "first", "other"):
-            waiting += getattr(row, name, [])
-    return found
 
 
 class Kept(unittest.TestCase):

@@ -9,7 +9,7 @@ from hushrow.rows import (
     SendRow, SetRow,
 )
 from hushrow.writer import written
-from samples import SPELLED, WHOLE, drawn
+from samples import SPELLED, WHOLE, drawn, rows_of
 
 HEADS = ["hand ann open", "given g open", "given gl closed 3", "own x", "own r 3", "let m open", "let n open"]
 # A row of each kind that may stand in a body, but for last.
@@ -356,15 +356,6 @@ class TooLongs(Refusals):
 class Kept(unittest.TestCase):
     """Point 2."""
 
-    def rows_of(self, program):
-        found, waiting = [], program.heads + program.deeds + program.main
-        while waiting:
-            row = waiting.pop()
-            found.append(row)
-            for name in ("body", "first", "other"):
-                waiting += getattr(row, name, [])
-        return found
-
     def test_the_rows_handed_in_stay(self):
         rows = list(WHOLE)
         read(rows)
@@ -377,8 +368,8 @@ class Kept(unittest.TestCase):
         rows = list(WHOLE)
         one, other = read(rows), read(rows)
         rows.clear()
-        self.assertEqual({id(row) for row in self.rows_of(one)} & {id(row) for row in self.rows_of(other)}, set())
-        for row in self.rows_of(one):
+        self.assertEqual({id(row) for row in rows_of(one)} & {id(row) for row in rows_of(other)}, set())
+        for row in rows_of(one):
             self.assertIsInstance(row, Row)
             for value in vars(row).values():
                 if isinstance(value, list):
