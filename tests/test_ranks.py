@@ -10,6 +10,7 @@ from hushrow.ranks import (
     joined,
     only,
     rank_of,
+    rank_told,
     ranks_in,
     top,
     up_to,
@@ -62,6 +63,12 @@ class Words(Whole):
                 with self.assertRaises(NoRank) as caught:
                     rank_of(word)
                 self.assertEqual(caught.exception.word, word)
+
+    def test_rank_told_of_any_word(self):
+        for rank, word in enumerate(["open", "house", "closed"]):
+            self.same_number(rank_told(word), rank)
+        for word in NEARLY:
+            self.assertIsNone(rank_told(word))
 
 
 class Bits(Whole):
